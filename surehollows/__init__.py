@@ -1,0 +1,1 @@
+"""Surehollows: hollows that every land within measured bounds must have."""

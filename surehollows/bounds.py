@@ -1,0 +1,107 @@
+"""Heights, names, and the bounds between which a height is known."""
+
+from surehollows.errors import Contradiction, InvalidBounds, InvalidHeight, InvalidText
+
+MOST_HEIGHT = 10 ** 12
+# MOST_HEIGHT has so many digits. Python refuses to convert very long texts, so they are turned away before.
+MOST_DIGITS = 13
+MOST_LETTERS = 8
+LETTERS = "abcdefghijklmnopqrstuvwxyz"
+DIGITS = "0123456789"
+
+
+def is_height(value):
+    """Tell whether any value is a height."""
+    if not isinstance(value, int) or isinstance(value, bool):
+        return False
+    return -MOST_HEIGHT <= value <= MOST_HEIGHT
+
+
+def is_name(value):
+    """Tell whether any value is a name."""
+    if not isinstance(value, str) or not 1 <= len(value) <= MOST_LETTERS:
+        return False
+    return all([letter in LETTERS for letter in value])
+
+
+def height_in(word):
+    """Return the height that the word writes, or None if it writes none."""
+    digits = word.removeprefix("-")
+    if not 1 <= len(digits) <= MOST_DIGITS or not all([digit in DIGITS for digit in digits]):
+        return None
+    height = int(word)
+    # Leading zeros and -0 are digits, too, but no text of bounds has them.
+    if str(height) != word or not is_height(height):
+        return None
+    return height
+
+
+def ends_in(text):
+    """Return the low and the high bound of a text of bounds, or None for any other value."""
+    if not isinstance(text, str):
+        return None
+    ends = [height_in(word) for word in text.split("..")]
+    if len(ends) > 2 or None in ends:
+        return None
+    if len(ends) == 1:
+        return ends[0], ends[0]
+    low, high = ends
+    return (low, high) if low < high else None
+
+
+class Bounds:
+    """A low and a high bound; they never change."""
+
+    def __init__(self, low, high):
+        if not is_height(low):
+            raise InvalidHeight(low)
+        if not is_height(high):
+            raise InvalidHeight(high)
+        if low > high:
+            raise InvalidBounds(low, high)
+        self.low = low
+        self.high = high
+
+    @classmethod
+    def exact(cls, height):
+        """Return the bounds between which only this height lies."""
+        return cls(height, height)
+
+    @classmethod
+    def from_text(cls, text):
+        """Return the bounds with this text."""
+        ends = ends_in(text)
+        if ends is None:
+            raise InvalidText(text)
+        low, high = ends
+        return cls(low, high)
+
+    @property
+    def width(self):
+        """How far the high bound is above the low bound."""
+        return self.high - self.low
+
+    def holds(self, other):
+        """Tell whether all heights within other lie within these bounds."""
+        return self.low <= other.low and other.high <= self.high
+
+    def __contains__(self, value):
+        return is_height(value) and self.low <= value <= self.high
+
+    def __eq__(self, other):
+        return isinstance(other, Bounds) and self.low == other.low and self.high == other.high
+
+    def __and__(self, other):
+        low = max(self.low, other.low)
+        high = min(self.high, other.high)
+        if low > high:
+            raise Contradiction(self, other)
+        return Bounds(low, high)
+
+    def __neg__(self):
+        return Bounds(-self.high, -self.low)
+
+    def __str__(self):
+        if self.low == self.high:
+            return str(self.low)
+        return f"{self.low}..{self.high}"

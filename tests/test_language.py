@@ -1,0 +1,102 @@
+"""The rules of ../shared/LANGUAGE.md that can be checked by looking at the files."""
+
+import ast
+import builtins
+import pathlib
+import re
+import unittest
+
+FOLDER = pathlib.Path(__file__).resolve().parent.parent / "surehollows"
+
+BUILTINS = set("""
+    len range enumerate zip min max sum abs sorted reversed int str bool bytes list tuple dict set isinstance ord repr
+    any all divmod iter next super property staticmethod classmethod NotImplemented
+    Exception ValueError TypeError KeyError IndexError LookupError ZeroDivisionError ArithmeticError OverflowError
+    RuntimeError NotImplementedError AttributeError StopIteration
+""".split())
+
+METHODS = set("""
+    append clear copy count endswith extend find get index insert isalnum isalpha isdigit islower isspace isupper items
+    join keys ljust lower lstrip partition pop remove replace reverse rfind rjust rpartition rsplit rstrip setdefault
+    split splitlines startswith strip update upper values zfill bit_length title capitalize swapcase casefold center
+    expandtabs removeprefix removesuffix rindex isascii isdecimal isnumeric istitle isidentifier isprintable add discard
+    __init__
+""".split())
+
+BARRED = re.compile(r"""
+    \b(type|typing|typing_extensions|enum|Enum|IntEnum|StrEnum|Flag|IntFlag|Generic|Protocol|ABC|ABCMeta|namedtuple
+    |NamedTuple|TypedDict|TYPE_CHECKING|abstractmethod|register|mro|elements|open|input|law)\b
+    |dataclass|overload|contextmanager
+""", re.VERBOSE)
+
+
+def files():
+    return sorted(FOLDER.rglob("*.py"))
+
+
+def trees():
+    return [(path, ast.parse(path.read_text())) for path in files()]
+
+
+def nodes(kinds):
+    return [(path, node) for path, tree in trees() for node in ast.walk(tree) if isinstance(node, kinds)]
+
+
+class TestLanguage(unittest.TestCase):
+
+    def test_the_folder_contains_python_files_alone(self):
+        found = [path for path in FOLDER.rglob("*") if path.is_file() and "__pycache__" not in path.parts]
+        self.assertEqual(sorted(found), files())
+        self.assertIn(FOLDER / "__init__.py", found)
+
+    def test_characters_words_and_sizes(self):
+        for path in files():
+            text = path.read_text()
+            self.assertRegex(text, r"\A[ -~\n]*\Z", path)
+            self.assertNotRegex(text, BARRED, path)
+            lines = text.splitlines()
+            self.assertLessEqual(len(lines), 399, path)
+            self.assertLessEqual(max([len(line) for line in lines], default=0), 120, path)
+
+    def test_functions_are_small(self):
+        for path, node in nodes(ast.FunctionDef):
+            self.assertLessEqual(node.end_lineno - node.lineno + 1, 40, (path, node.name))
+
+    def test_imports_name_the_files_that_define(self):
+        self.assertEqual(nodes(ast.Import), [])
+        for path, node in nodes(ast.ImportFrom):
+            self.assertEqual((node.level, node.module.split(".")[0]), (0, "surehollows"), path)
+            source = FOLDER.parent.joinpath(*node.module.split(".")).with_suffix(".py")
+            body = ast.parse(source.read_text()).body
+            defined = [row.name for row in body if isinstance(row, (ast.FunctionDef, ast.ClassDef))]
+            defined += [row.targets[0].id for row in body if isinstance(row, ast.Assign)]
+            for alias in node.names:
+                self.assertIn(alias.name, defined, path)
+
+    def test_builtins(self):
+        for path, node in nodes(ast.Name):
+            if hasattr(builtins, node.id):
+                self.assertIn(node.id, BUILTINS, (path, node.lineno))
+                self.assertIsInstance(node.ctx, ast.Load, (path, node.lineno))
+
+    def test_methods(self):
+        own = [node.name for _, node in nodes(ast.FunctionDef)]
+        for path, node in nodes(ast.Call):
+            if isinstance(node.func, ast.Attribute):
+                self.assertIn(node.func.attr, METHODS | set(own), (path, node.lineno))
+
+    def test_no_name_is_a_method_and_an_attribute(self):
+        methods = [row.name for _, node in nodes(ast.ClassDef) for row in node.body if isinstance(row, ast.FunctionDef)]
+        for path, node in nodes(ast.Attribute):
+            if isinstance(node.ctx, ast.Store):
+                self.assertNotIn(node.attr, methods, (path, node.lineno))
+
+    def test_strings_and_floats(self):
+        for path, node in nodes(ast.Constant):
+            self.assertNotIsInstance(node.value, float, (path, node.lineno))
+            if isinstance(node.value, str):
+                self.assertNotIn("%", node.value, (path, node.lineno))
+
+
+if __name__ == "__main__":
+    unittest.main()
