@@ -1,6 +1,8 @@
 """Heights, names, and the bounds between which a height is known."""
 
-from surehollows.errors import Contradiction, InvalidBounds, InvalidHeight, InvalidText
+from surehollows.errors import (
+    Contradiction, InvalidBounds, InvalidDepth, InvalidHeight, InvalidLevels, InvalidText
+)
 
 MOST_HEIGHT = 10 ** 12
 # MOST_HEIGHT has so many digits. Python refuses to convert very long texts, so they are turned away before.
@@ -10,11 +12,14 @@ LETTERS = "abcdefghijklmnopqrstuvwxyz"
 DIGITS = "0123456789"
 
 
+def is_whole(value):
+    """Tell whether any value is an integer; True and False are none."""
+    return isinstance(value, int) and not isinstance(value, bool)
+
+
 def is_height(value):
     """Tell whether any value is a height."""
-    if not isinstance(value, int) or isinstance(value, bool):
-        return False
-    return -MOST_HEIGHT <= value <= MOST_HEIGHT
+    return is_whole(value) and -MOST_HEIGHT <= value <= MOST_HEIGHT
 
 
 def is_name(value):
@@ -22,6 +27,26 @@ def is_name(value):
     if not isinstance(value, str) or not 1 <= len(value) <= MOST_LETTERS:
         return False
     return all([letter in LETTERS for letter in value])
+
+
+def check_height(value):
+    """Raise InvalidHeight unless the value is a height."""
+    if not is_height(value):
+        raise InvalidHeight(value)
+
+
+def check_levels(low, high):
+    """Raise the error that these two levels call for."""
+    check_height(low)
+    check_height(high)
+    if low > high:
+        raise InvalidLevels(low, high)
+
+
+def check_depth(value):
+    """Raise InvalidDepth unless the value is an integer that a depth may be compared with."""
+    if not is_whole(value) or not 0 <= value <= 2 * MOST_HEIGHT:
+        raise InvalidDepth(value)
 
 
 def height_in(word):
@@ -53,10 +78,8 @@ class Bounds:
     """A low and a high bound; they never change."""
 
     def __init__(self, low, high):
-        if not is_height(low):
-            raise InvalidHeight(low)
-        if not is_height(high):
-            raise InvalidHeight(high)
+        check_height(low)
+        check_height(high)
         if low > high:
             raise InvalidBounds(low, high)
         self.low = low

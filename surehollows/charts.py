@@ -20,6 +20,18 @@ def is_pair(value, places):
     return is_place(one, places) and is_place(other, places) and one != other
 
 
+def check_chart(chart):
+    """Raise NotChart unless the value is a chart."""
+    if not isinstance(chart, Chart):
+        raise NotChart(chart)
+
+
+def check_place(chart, name):
+    """Raise UnknownPlace unless the value is the name of a place of the chart."""
+    if name not in chart:
+        raise UnknownPlace(name)
+
+
 def check_places(places):
     """Raise the error that these places of a chart call for."""
     if not isinstance(places, dict):
@@ -84,6 +96,21 @@ def parts_of(chart, names):
     return parts
 
 
+def are_places(chart, value):
+    """Tell whether any value is a list of places of the chart, no place twice."""
+    if not isinstance(value, list) or not all([item in chart for item in value]):
+        return False
+    return len(set(value)) == len(value)
+
+
+def tied_outside(chart, names, inside):
+    """Return the places that are tied to one of the names and are not inside, each one once."""
+    found = {}
+    for name in names:
+        found.update({other: True for other in chart.neighbours(name) if other not in inside})
+    return list(found)
+
+
 class Chart:
     """A finite set of places with their bounds, ties and outlets; it never changes."""
 
@@ -110,8 +137,7 @@ class Chart:
 
     def neighbours(self, name):
         """Return the names of the places that are tied to this place, in ascending order."""
-        if name not in self:
-            raise UnknownPlace(name)
+        check_place(self, name)
         return list(self.tied_by_name[name])
 
     def parts(self):
@@ -120,8 +146,7 @@ class Chart:
 
     def with_bounds(self, name, bounds):
         """Return a chart that differs from this one in the bounds of one place alone."""
-        if name not in self:
-            raise UnknownPlace(name)
+        check_place(self, name)
         if not isinstance(bounds, Bounds):
             raise NotBounds(bounds)
         return Chart({**self.bounds_by_name, name: bounds}, self.ties(), outlets=self.outlets())
@@ -133,15 +158,13 @@ class Chart:
 
     def narrower(self, other):
         """Tell whether this chart is the other one with bounds that are nowhere wider."""
-        if not isinstance(other, Chart):
-            raise NotChart(other)
+        check_chart(other)
         if self.tied_by_name != other.tied_by_name or self.outlet_names != other.outlet_names:
             return False
         return all([other[name].holds(self[name]) for name in self.names()])
 
     def __getitem__(self, name):
-        if name not in self:
-            raise UnknownPlace(name)
+        check_place(self, name)
         return self.bounds_by_name[name]
 
     def __iter__(self):

@@ -91,6 +91,40 @@ class TestLanguage(unittest.TestCase):
             if isinstance(node.ctx, ast.Store):
                 self.assertNotIn(node.attr, methods, (path, node.lineno))
 
+    def test_no_name_means_two_things_in_one_file(self):
+        for path, tree in trees():
+            fixed = [alias.name for node in ast.walk(tree) if isinstance(node, ast.ImportFrom) for alias in node.names]
+            fixed += [node.name for node in ast.walk(tree) if isinstance(node, ast.ClassDef)]
+            assigned = [node.arg for node in ast.walk(tree) if isinstance(node, ast.arg)]
+            assigned += [
+                node.id for node in ast.walk(tree) if isinstance(node, ast.Name) and isinstance(node.ctx, ast.Store)]
+            self.assertEqual(set(fixed) & set(assigned), set(), path)
+            self.assertEqual([name for name in assigned if name.startswith("_") or hasattr(builtins, name)], [], path)
+
+    def test_files_import_in_one_direction(self):
+        needs = {path.stem: set() for path in files()}
+        for path, node in nodes(ast.ImportFrom):
+            needs[path.stem].add(node.module.split(".")[1])
+        while needs:
+            free = [name for name in needs if not needs[name] & set(needs)]
+            self.assertNotEqual(free, [], needs)
+            for name in free:
+                del needs[name]
+
+    def test_is_stands_beside_none_true_and_false(self):
+        for path, node in nodes(ast.Compare):
+            for sign, right in zip(node.ops, node.comparators):
+                if isinstance(sign, (ast.Is, ast.IsNot)):
+                    self.assertIsInstance(right, ast.Constant, (path, node.lineno))
+                    self.assertIn(right.value, [None, True, False], (path, node.lineno))
+
+    def test_statements_and_expressions(self):
+        barred = (
+            ast.GeneratorExp, ast.Global, ast.Div, ast.Yield, ast.YieldFrom, ast.Await, ast.AsyncFunctionDef, ast.Set,
+            ast.Lambda, ast.Try, ast.With)
+        for path, node in nodes(barred):
+            self.fail((path, node.lineno if hasattr(node, "lineno") else node))
+
     def test_strings_and_floats(self):
         for path, node in nodes(ast.Constant):
             self.assertNotIsInstance(node.value, float, (path, node.lineno))
