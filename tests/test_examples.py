@@ -3,11 +3,19 @@
 import unittest
 
 from surehollows.bounds import Bounds
+from surehollows.calm import calm_land, is_calm, roots, surplus
 from surehollows.charts import Chart
 from surehollows.charttexts import chart_text, read_chart
+from surehollows.drain import alone, is_why_not, land_for, may_take, takers, why_not
 from surehollows.errors import InvalidBounds, InvalidText
 from surehollows.lands import Land, basin, basins, closed_count, deeper, depths, hollows
 from surehollows.passes import high_pass, is_rim, low_pass, low_way, pass_level, rim
+from surehollows.sure import (
+    deep_regions, is_deep, is_separate, least_deeper, least_depths, sure_count, sure_hollows, sure_regions
+)
+from surehollows.water import (
+    dry_land, escape, greatest_water, land_with_water, least_total, least_water, never_wet, surely_wet, water
+)
 from tests.helper import raised
 
 
@@ -54,6 +62,51 @@ class TestExamples(unittest.TestCase):
         self.assertEqual(
             [rim(chart, "a", 3), rim(chart, "a", 0), is_rim(chart, "a", 3, ["c", "a"]), is_rim(chart, "a", 4, ["a"])],
             [["a"], [], True, False])
+
+    def test_sure_hollows(self):
+        chart = Chart({"a": Bounds(0, 1), "b": Bounds(5, 9), "c": Bounds(0, 2)}, [("a", "b"), ("b", "c")])
+        self.assertEqual(
+            [sure_hollows(chart), least_depths(chart), least_deeper(chart, 2), least_deeper(chart, 3),
+             sure_regions(chart, 2, 4), sure_count(chart, 1, 4)],
+            [[("a", 1, None), ("c", 2, 5)], [None, 3], 2, 1, [("a", ["a"]), ("c", ["c"])], 1])
+        regions = [("a", ["a"]), ("c", ["c"])]
+        self.assertEqual(
+            [deep_regions(chart, 2), is_deep(chart, 2, regions), is_deep(chart, 3, regions),
+             is_separate(chart, 2, 4, regions), is_separate(chart, 2, 5, regions)],
+            [[("a", ["a"]), ("c", ["c"])], True, False, True, False])
+
+    def test_calm_land(self):
+        chart = Chart({"a": Bounds(0, 1), "b": Bounds(5, 9), "c": Bounds(0, 2)}, [("a", "b"), ("b", "c")])
+        land = Land(chart, {"a": 0, "b": 9, "c": 0})
+        self.assertEqual(
+            [roots(chart), calm_land(chart).heights(), is_calm(chart, calm_land(chart)), is_calm(chart, land),
+             surplus(chart, land)],
+            [["a", "c"], {"a": 1, "b": 5, "c": 2}, True, False, (0, 0)])
+
+    def test_water(self):
+        chart = Chart(
+            {"a": Bounds(0, 2), "b": Bounds(3, 8), "o": Bounds(1, 1)}, [("a", "b"), ("b", "o")], outlets=["o"])
+        self.assertEqual(
+            [dry_land(chart).heights(), least_water(chart, "a"), greatest_water(chart, "a"), escape(chart, "a")],
+            [{"a": 2, "b": 3, "o": 1}, 1, 8, ["a", "b", "o"]])
+        self.assertEqual(
+            [water(land_with_water(chart, "a", 4), "a"), least_total(chart), surely_wet(chart), never_wet(chart)],
+            [4, 1, ["a"], ["b", "o"]])
+
+    def test_drain(self):
+        chart = Chart(
+            {"a": Bounds(0, 4), "o": Bounds(5, 5), "p": Bounds(1, 6)}, [("a", "o"), ("o", "p"), ("a", "p")],
+            outlets=["o", "p"])
+        self.assertEqual(
+            [takers(Land.lowest(chart), "a"), may_take(chart, "a"), alone(chart, "a"),
+             "o" in takers(land_for(chart, "a", "o"), "a")],
+            [["p"], ["o", "p"], None, True])
+        far = Chart(
+            {"a": Bounds(0, 4), "o": Bounds(5, 5), "p": Bounds(1, 4)}, [("a", "o"), ("a", "p")], outlets=["o", "p"])
+        self.assertEqual(
+            [why_not(far, "a", "o")[0], is_why_not(far, "a", "o", ("p", ["a", "p"], 4, ["a", "p"])),
+             is_why_not(far, "a", "o", ("p", ["a", "p"], 5, ["a", "p"])), alone(far, "a")],
+            ["p", True, False, "p"])
 
 
 if __name__ == "__main__":

@@ -16,6 +16,23 @@ FUNCTIONS = {
         "high_pass(chart, one, other)", "low_way(chart, one, other)", "high_way(chart, one, other)",
         "rim(chart, name, level)", "is_rim(chart, name, level, value)",
     ],
+    "sure": [
+        "sure_regions(chart, low, high)", "sure_count(chart, low, high)", "sure_hollows(chart)", "least_depths(chart)",
+        "least_deeper(chart, depth)", "deep_regions(chart, depth)", "is_separate(chart, low, high, value)",
+        "is_deep(chart, depth, value)",
+    ],
+    "calm": [
+        "roots(chart)", "calm_land(chart)", "calm_way(chart, name)", "is_calm(chart, land)", "surplus(chart, land)",
+    ],
+    "water": [
+        "water_level(land, name)", "water(land, name)", "total_water(land)", "dry_land(chart)", "least_water(chart, name)",
+        "greatest_water(chart, name)", "wet_land(chart, name)", "least_total(chart)",
+        "land_with_water(chart, name, depth)", "surely_wet(chart)", "never_wet(chart)", "escape(chart, name)",
+    ],
+    "drain": [
+        "takers(land, name)", "may_take(chart, name)", "alone(chart, name)", "land_for(chart, name, outlet)",
+        "why_not(chart, name, outlet)", "is_why_not(chart, name, outlet, value)",
+    ],
 }
 
 CLASSES = {
