@@ -1,8 +1,6 @@
 """Heights, names, and the bounds between which a height is known."""
 
-from surehollows.errors import (
-    Contradiction, InvalidBounds, InvalidDepth, InvalidHeight, InvalidLevels, InvalidText
-)
+from surehollows.errors import Contradiction, InvalidBounds, InvalidDepth, InvalidHeight, InvalidLevels, InvalidText
 
 MOST_HEIGHT = 10 ** 12
 # MOST_HEIGHT has so many digits. Python refuses to convert very long texts, so they are turned away before.
