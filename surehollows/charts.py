@@ -52,13 +52,19 @@ def check_ties(ties, places):
             raise InvalidTie(item)
 
 
-def check_outlets(outlets, places):
-    """Raise the error that these outlets among the places call for."""
-    if not isinstance(outlets, (list, tuple)):
-        raise UnknownPlace(outlets)
-    for item in outlets:
+def check_listed(listed, places):
+    """Raise UnknownPlace for a value that is no list and no tuple, else for its first item that is no such place."""
+    if not isinstance(listed, (list, tuple)):
+        raise UnknownPlace(listed)
+    for item in listed:
         if not is_place(item, places):
             raise UnknownPlace(item)
+
+
+def check_bounds(bounds):
+    """Raise NotBounds unless the value is a Bounds."""
+    if not isinstance(bounds, Bounds):
+        raise NotBounds(bounds)
 
 
 def tied_places(names, ties):
@@ -86,11 +92,12 @@ def part_around(chart, start, names):
 
 def parts_of(chart, names):
     """Return the parts of the names, a set of places of the chart, ordered by their first names."""
+    inside = {name: True for name in names}
     found = {}
     parts = []
     for name in sorted(names):
         if name not in found:
-            part = part_around(chart, name, names)
+            part = part_around(chart, name, inside)
             parts.append(part)
             found.update({member: True for member in part})
     return parts
@@ -111,13 +118,25 @@ def tied_outside(chart, names, inside):
     return list(found)
 
 
+def places_of(chart):
+    """Return a dict from the places of a chart, in ascending order, to their bounds."""
+    return {name: chart[name] for name in chart.names()}
+
+
+def narrowed(chart, name, bounds):
+    """Return the chart in which the bounds of the place are the heights that also lie within these bounds."""
+    check_place(chart, name)
+    check_bounds(bounds)
+    return chart.with_bounds(name, chart[name] & bounds)
+
+
 class Chart:
     """A finite set of places with their bounds, ties and outlets; it never changes."""
 
     def __init__(self, places, ties=(), *, outlets=()):
         check_places(places)
         check_ties(ties, places)
-        check_outlets(outlets, places)
+        check_listed(outlets, places)
         ordered = sorted(places)
         self.bounds_by_name = {name: places[name] for name in ordered}
         self.tied_by_name = tied_places(ordered, ties)
@@ -147,8 +166,7 @@ class Chart:
     def with_bounds(self, name, bounds):
         """Return a chart that differs from this one in the bounds of one place alone."""
         check_place(self, name)
-        if not isinstance(bounds, Bounds):
-            raise NotBounds(bounds)
+        check_bounds(bounds)
         return Chart({**self.bounds_by_name, name: bounds}, self.ties(), outlets=self.outlets())
 
     def turned(self, *, outlets=()):

@@ -2,12 +2,14 @@
 
 import unittest
 
+from surehollows.book import Book
 from surehollows.bounds import Bounds
 from surehollows.calm import calm_land, is_calm, roots, surplus
 from surehollows.charts import Chart
 from surehollows.charttexts import chart_text, read_chart
 from surehollows.drain import alone, is_why_not, land_for, may_take, takers, why_not
 from surehollows.errors import InvalidBounds, InvalidText
+from surehollows.hills import hills, sure_hills
 from surehollows.lands import Land, basin, basins, closed_count, deeper, depths, hollows
 from surehollows.passes import high_pass, is_rim, low_pass, low_way, pass_level, rim
 from surehollows.sure import (
@@ -107,6 +109,20 @@ class TestExamples(unittest.TestCase):
             [why_not(far, "a", "o")[0], is_why_not(far, "a", "o", ("p", ["a", "p"], 4, ["a", "p"])),
              is_why_not(far, "a", "o", ("p", ["a", "p"], 5, ["a", "p"])), alone(far, "a")],
             ["p", True, False, "p"])
+
+    def test_book_and_hills(self):
+        book = Book(
+            Chart({"a": Bounds(0, 9), "b": Bounds(2, 9), "c": Bounds(1, 9)}, [("a", "b"), ("b", "c")]))
+        self.assertEqual(
+            [book.hollows(), book.read("c", Bounds(0, 1)), book.read("b", Bounds(4, 20)), book.hollows(),
+             book.history(), str(book.now["b"])],
+            [[("a", 9, None)], None, None, [("c", 1, None)], [("c", "0..1"), ("b", "4..20")], "4..9"])
+        self.assertEqual(
+            [book.tried(lambda it: it.read("a", Bounds.exact(0)), keep=False), book.hollows(),
+             book.tried(lambda it: it.undo()), book.hollows()],
+            [None, [("c", 1, None)], None, [("c", 1, None)]])
+        self.assertEqual(
+            [hills(Land.highest(book.now)), sure_hills(book.now, outlets=["c"])], [[("a", 9, None)], [("b", 2, 1)]])
 
 
 if __name__ == "__main__":

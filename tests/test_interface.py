@@ -33,6 +33,7 @@ FUNCTIONS = {
         "takers(land, name)", "may_take(chart, name)", "alone(chart, name)", "land_for(chart, name, outlet)",
         "why_not(chart, name, outlet)", "is_why_not(chart, name, outlet, value)",
     ],
+    "hills": ["hills(land, *, outlets=())", "sure_hills(chart, *, outlets=())", "level_land(chart, *, outlets=())"],
 }
 
 CLASSES = {
@@ -42,12 +43,15 @@ CLASSES = {
         "turned(*, outlets=())", "narrower(other)",
     ]},
     "lands": {"Land(chart, heights)": ["heights()", "pinned()", "lowest(chart)", "highest(chart)", "clipped(chart, level)"]},
+    "book": {"Book(chart)": ["read(name, bounds)", "undo()", "history()", "hollows()", "tried(action, *, keep=True)"]},
+    "sheets": {"Sheet(chart, borders=())": ["borders()", "inner()", "glue(other)", "kept(names)"]},
 }
 
 SPECIAL = {
     ("bounds", "Bounds"): ["__contains__", "__eq__", "__and__", "__neg__", "__str__", "width"],
     ("charts", "Chart"): ["__getitem__", "__contains__", "__eq__", "__len__"],
     ("lands", "Land"): ["__call__", "__eq__"],
+    ("sheets", "Sheet"): ["__eq__"],
 }
 
 
@@ -91,6 +95,7 @@ class TestInterface(unittest.TestCase):
 
     def test_numbers(self):
         self.assertEqual((module("bounds").MOST_HEIGHT, module("charts").MOST_PLACES), (10 ** 12, 60))
+        self.assertEqual(module("sheets").MOST_BORDERS, 8)
 
 
 if __name__ == "__main__":

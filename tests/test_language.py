@@ -6,6 +6,8 @@ import pathlib
 import re
 import unittest
 
+from surehollows import errors
+
 FOLDER = pathlib.Path(__file__).resolve().parent.parent / "surehollows"
 
 BUILTINS = set("""
@@ -28,6 +30,8 @@ BARRED = re.compile(r"""
     |NamedTuple|TypedDict|TYPE_CHECKING|abstractmethod|register|mro|elements|open|input|law)\b
     |dataclass|overload|contextmanager
 """, re.VERBOSE)
+
+PLAIN = (ast.Module, ast.Assign, ast.Tuple, ast.Attribute, ast.Name, ast.expr_context)
 
 
 def files():
@@ -121,9 +125,18 @@ class TestLanguage(unittest.TestCase):
     def test_statements_and_expressions(self):
         barred = (
             ast.GeneratorExp, ast.Global, ast.Div, ast.Yield, ast.YieldFrom, ast.Await, ast.AsyncFunctionDef, ast.Set,
-            ast.Lambda, ast.Try, ast.With)
+            ast.Lambda, ast.With)
         for path, node in nodes(barred):
             self.fail((path, node.lineno if hasattr(node, "lineno") else node))
+
+    def test_tries_name_own_errors_and_end_in_plain_assignments(self):
+        for path, node in nodes(ast.Try):
+            for handler in node.handlers:
+                self.assertTrue(issubclass(getattr(errors, handler.type.id), errors.SurveyError), (path, handler.lineno))
+            for row in node.finalbody:
+                self.assertIsInstance(row, ast.Assign, (path, row.lineno))
+                for part in ast.walk(ast.Module([row], [])):
+                    self.assertIsInstance(part, PLAIN, (path, row.lineno))
 
     def test_strings_and_floats(self):
         for path, node in nodes(ast.Constant):
