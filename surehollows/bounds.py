@@ -27,6 +27,23 @@ def is_name(value):
     return all([letter in LETTERS for letter in value])
 
 
+def name_at(index):
+    """Return the name with this index among all names: a to z, then aa, ab and so on."""
+    letters = ""
+    while index >= 0:
+        letters = LETTERS[index % len(LETTERS)] + letters
+        index = index // len(LETTERS) - 1
+    return letters
+
+
+def fresh_name(taken):
+    """Return the first name that is none of these."""
+    index = 0
+    while name_at(index) in taken:
+        index += 1
+    return name_at(index)
+
+
 def check_height(value):
     """Raise InvalidHeight unless the value is a height."""
     if not is_height(value):

@@ -4,6 +4,7 @@ from surehollows.charts import check_chart, check_place
 from surehollows.errors import NotLand
 from surehollows.floods import flood, levels_from, low_heights, way_back
 from surehollows.lands import Land, hollows
+from surehollows.pairs import pairs_of, surplus_levels
 from surehollows.sure import sure_hollows
 
 
@@ -39,36 +40,9 @@ def is_calm(chart, land):
     return surplus(chart, land) is None
 
 
-def born_and_living(found, level):
-    """Return the births of these hollows that are born and live at the level, in ascending order."""
-    # The hollows come in ascending order of births.
-    return [birth for name, birth, death in found if birth <= level and (death is None or death > level)]
-
-
-def first_surplus(more, fewer):
-    """Return the least number up to which there are more of the one sorted numbers than of the others, or None."""
-    for index, number in enumerate(more):
-        if index >= len(fewer) or number < fewer[index]:
-            return number
-    return None
-
-
-def turning_levels(found):
-    """Return the levels at which one of these hollows is born or dies."""
-    births = [birth for name, birth, death in found]
-    return births + [death for name, birth, death in found if death is not None]
-
-
 def surplus(chart, land):
     """Return the least levels (low, high) with more closed basins than sure regions, or None if there are none."""
     check_chart(chart)
     if not isinstance(land, Land) or land.chart != chart:
         raise NotLand(land)
-    found = hollows(land)
-    sure = sure_hollows(chart)
-    # Between these levels both counts stay as they are.
-    for high in sorted(turning_levels(found) + turning_levels(sure)):
-        low = first_surplus(born_and_living(found, high), born_and_living(sure, high))
-        if low is not None:
-            return (low, high)
-    return None
+    return surplus_levels(pairs_of(hollows(land)), pairs_of(sure_hollows(chart)))

@@ -6,6 +6,7 @@ import random
 from surehollows.bounds import Bounds
 from surehollows.charts import Chart
 from surehollows.lands import Land
+from surehollows.sheets import Sheet
 
 MOST = 10 ** 12
 
@@ -74,6 +75,55 @@ def some_charts(count, seed, most=4, top=3, widest=3):
         outlets = [name for name in names if chance.random() < chance.choice([0, 0.3])]
         charts.append(Chart(places, ties, outlets=outlets))
     return charts
+
+
+def drawn_bounds(chance, top):
+    """Bounds of heights up to top, chosen blindly."""
+    low = chance.randint(0, top)
+    return Bounds(low, min(top, low + chance.choice([0, 0, 1, 2, top])))
+
+
+def drawn_places(chance, names, top):
+    """Places with these names and bounds that are chosen blindly."""
+    return {name: drawn_bounds(chance, top) for name in names}
+
+
+def drawn_sheet(chance, names, borders, top):
+    """A sheet with inner places of these names and border places of these bounds, the rest chosen blindly."""
+    places = {**borders, **drawn_places(chance, names, top)}
+    density, drained = chance.choice([0.1, 0.2, 0.4, 0.7]), chance.choice([0, 0.1, 0.3])
+    ties = [pair for pair in itertools.combinations(places, 2) if chance.random() < density]
+    return Sheet(Chart(places, ties, outlets=[name for name in places if chance.random() < drained]), list(borders))
+
+
+def some_sheets(count, seed, most=9, top=4):
+    """Sheets of at most so many inner places and up to eight border places, always the same for one seed."""
+    chance = random.Random(seed)
+    sheets = [Sheet(Chart({}))]
+    while len(sheets) < count:
+        borders = drawn_places(chance, chance.sample("pqrstuvw", chance.randint(0, 8)), top)
+        sheets.append(drawn_sheet(chance, many_names(chance.randint(0, most)), borders, top))
+    return sheets
+
+
+def face(sheet):
+    """All that a sheet tells."""
+    return (look(sheet.chart), sheet.borders(), sheet.inner())
+
+
+def no_sheets():
+    """Values of many kinds that are no sheet."""
+    return [*odd_values(), 0, "a", {}, bounds("0"), sample(), Land.lowest(sample()), face(Sheet(sample()))]
+
+
+def no_lists_or_tuples():
+    """Values of many kinds that are neither a list nor a tuple."""
+    return [None, True, False, 0, 7, "", "a", "ab", {}, {"a": 1}, bounds("0"), sample(), Sheet(sample()), SomeObject()]
+
+
+def no_bounds():
+    """Values of many kinds that are no Bounds."""
+    return [*odd_values(), 3, "3..5", (3, 5), [3, 5], "a", sample(), Land.lowest(sample()), Sheet(sample())]
 
 
 def lands_of(chart):

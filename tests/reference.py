@@ -108,3 +108,34 @@ def courses(chart, name):
 def takers(land, name):
     tops = [(top_of(land.heights(), course), course[-1]) for course in courses(land.chart, name)]
     return sorted({outlet for top, outlet in tops if top == min(tops)[0]})
+
+
+def sure_count(chart, low, high):
+    return len(closed_at(chart, lows(chart), highs(chart), low, high))
+
+
+def border_classes(sheet, level):
+    """The border classes of a sheet at the level, as the document describes them: [104]."""
+    chart = sheet.chart
+    drained, found = [], []
+    for part in parts(chart, [name for name in chart.names() if chart[name].low <= level]):
+        names = [name for name in part if name in sheet.borders()]
+        least = min(chart[name].high for name in part)
+        if set(part) & set(chart.outlets()):
+            drained += names
+        elif names:
+            found.append((sorted(names), least if least <= level else None))
+    return sorted(found + ([(sorted(drained), "outlet")] if drained else []), key=lambda one: one[0])
+
+
+def in_order(pairs):
+    """Pairs (birth, death) in ascending order, the death None last among equal births."""
+    return sorted(pairs, key=lambda pair: (pair[0], pair[1] is None, pair[1] or 0))
+
+
+def closed_hollows(sheet):
+    """The closed hollows of a sheet: the sure hollows of the chart whose border places are outlets, too."""
+    chart = sheet.chart
+    drained = type(chart)(
+        {name: chart[name] for name in chart.names()}, chart.ties(), outlets=chart.outlets() + sheet.borders())
+    return in_order([(birth, death) for name, birth, death in hollows(drained, lows(drained), highs(drained))])

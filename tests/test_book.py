@@ -7,18 +7,12 @@ from surehollows.book import Book
 from surehollows.bounds import Bounds
 from surehollows.charts import Chart
 from surehollows.errors import Contradiction, NotBounds, NotChart, NothingToUndo, UnknownPlace
-from surehollows.lands import Land
 from surehollows.sure import least_depths, sure_count, sure_hollows
 from surehollows.water import greatest_water, least_water
 from tests.helper import (
-    SomeObject, before_or_equal, bounds, check_fresh, level_pairs, line_of, look, no_charts, no_places, odd_values,
-    raised, refused, sample, some_charts
+    SomeObject, before_or_equal, bounds, check_fresh, level_pairs, line_of, look, no_bounds, no_charts, no_places, raised,
+    refused, sample, some_charts
 )
-
-
-def no_bounds():
-    """Values of many kinds that are no Bounds."""
-    return [*odd_values(), 3, "3..5", (3, 5), [3, 5], "a", sample(), Land.lowest(sample()), Book(sample())]
 
 
 def state(book):
@@ -106,7 +100,7 @@ class TestReading(unittest.TestCase):
         before = state(book)
         refused(self, UnknownPlace, lambda value: book.read(value, bounds("3")), no_places())
         refused(self, UnknownPlace, lambda value: book.read(value, None), no_places())
-        refused(self, NotBounds, lambda value: book.read("a", value), no_bounds())
+        refused(self, NotBounds, lambda value: book.read("a", value), [*no_bounds(), book])
         for text in ["2", "-3..2", "6", "6..9"]:
             given = bounds(text)
             error = raised(self, Contradiction, book.read, "a", given)

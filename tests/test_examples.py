@@ -7,11 +7,16 @@ from surehollows.bounds import Bounds
 from surehollows.calm import calm_land, is_calm, roots, surplus
 from surehollows.charts import Chart
 from surehollows.charttexts import chart_text, read_chart
+from surehollows.console import Console
 from surehollows.drain import alone, is_why_not, land_for, may_take, takers, why_not
 from surehollows.errors import InvalidBounds, InvalidText
+from surehollows.forms import form
 from surehollows.hills import hills, sure_hills
 from surehollows.lands import Land, basin, basins, closed_count, deeper, depths, hollows
+from surehollows.office import Office
+from surehollows.parting import equal_everywhere, parting
 from surehollows.passes import high_pass, is_rim, low_pass, low_way, pass_level, rim
+from surehollows.sheets import Sheet
 from surehollows.sure import (
     deep_regions, is_deep, is_separate, least_deeper, least_depths, sure_count, sure_hollows, sure_regions
 )
@@ -123,6 +128,40 @@ class TestExamples(unittest.TestCase):
             [None, [("c", 1, None)], None, [("c", 1, None)]])
         self.assertEqual(
             [hills(Land.highest(book.now)), sure_hills(book.now, outlets=["c"])], [[("a", 9, None)], [("b", 2, 1)]])
+
+    def test_form(self):
+        f = form(Sheet(Chart({"m": Bounds(1, 4), "x": Bounds(0, 0)}, [("m", "x")]), ["m"]))
+        self.assertEqual(
+            [f.closed(), f.classes(0), f.classes(1), f.sure_count(0, 0), f.sure_count(0, 1)],
+            [[(0, 1)], [], [(["m"], 0)], 1, 1])
+
+    def test_parting_and_office(self):
+        bare = Sheet(Chart({"m": Bounds(1, 4)}), ["m"])
+        grown = Sheet(Chart({"m": Bounds(1, 4), "x": Bounds(0, 9)}, [("m", "x")]), ["m"])
+        deep = Sheet(Chart({"m": Bounds(1, 4), "x": Bounds(0, 0)}, [("m", "x")]), ["m"])
+        self.assertEqual(
+            [equal_everywhere(bare, grown), parting(bare, grown), parting(bare, deep) is None], [True, None, False])
+        one = Sheet(Chart({"m": Bounds(1, 4), "x": Bounds(0, 0)}, [("m", "x")]), ["m"])
+        two = Sheet(Chart({"m": Bounds(1, 4), "y": Bounds(2, 3)}, [("m", "y")]), ["m"])
+        office = Office({"s": one, "t": two}, ("s", "t"))
+        self.assertEqual(
+            [office.hollows(), office.read("m", Bounds(4, 9)), office.hollows(), office.least_depths(), office.undo(),
+             office.hollows()],
+            [[(0, None)], None, [(0, None), (3, 4)], [None, 1], None, [(0, None)]])
+
+    def test_console(self):
+        console = Console()
+        self.assertEqual(
+            console.said([
+                "chart place a 0..4; outlet b 1; tie a b", "read a 2..9", "water a", "dry", "hollows", "read a 5", "undo",
+                "undo", "show"]),
+            ["2", "2..4", "0 0", "a 2; b 1", "-", "! Contradiction", "undone", "! NothingToUndo",
+             "place a 0..4; outlet b 1; tie a b"])
+        self.assertEqual(
+            console.said([
+                "calm ", "calm", "chart tie a b", "chart", "calm", "count 3 2", "alone a", "read a 1..1"]),
+            ["! InvalidLine", "a 1; b 1", "! InvalidText", "0", "-", "! InvalidLevels", "! UnknownPlace",
+             "! InvalidLine"])
 
 
 if __name__ == "__main__":

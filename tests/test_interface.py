@@ -34,6 +34,8 @@ FUNCTIONS = {
         "why_not(chart, name, outlet)", "is_why_not(chart, name, outlet, value)",
     ],
     "hills": ["hills(land, *, outlets=())", "sure_hills(chart, *, outlets=())", "level_land(chart, *, outlets=())"],
+    "forms": ["form(sheet)"],
+    "parting": ["equal_everywhere(one, other)", "parting(one, other)"],
 }
 
 CLASSES = {
@@ -45,13 +47,24 @@ CLASSES = {
     "lands": {"Land(chart, heights)": ["heights()", "pinned()", "lowest(chart)", "highest(chart)", "clipped(chart, level)"]},
     "book": {"Book(chart)": ["read(name, bounds)", "undo()", "history()", "hollows()", "tried(action, *, keep=True)"]},
     "sheets": {"Sheet(chart, borders=())": ["borders()", "inner()", "glue(other)", "kept(names)"]},
+    "office": {"Office(sheets, plan)": [
+        "read(name, bounds)", "undo()", "sheet(name)", "whole()", "hollows()", "least_depths()", "sure_count(low, high)",
+        "part_form(plan)",
+    ]},
+    "console": {"Console()": ["say(line)", "said(lines)"]},
 }
+
+# Forms are created by the package alone, so it is free how.
+FORM_METHODS = [
+    "borders()", "classes(level)", "closed()", "sure_count(low, high)", "glue(other)", "kept(names)", "short()",
+]
 
 SPECIAL = {
     ("bounds", "Bounds"): ["__contains__", "__eq__", "__and__", "__neg__", "__str__", "width"],
     ("charts", "Chart"): ["__getitem__", "__contains__", "__eq__", "__len__"],
     ("lands", "Land"): ["__call__", "__eq__"],
     ("sheets", "Sheet"): ["__eq__"],
+    ("forms", "Form"): ["__eq__"],
 }
 
 
@@ -82,11 +95,18 @@ class TestInterface(unittest.TestCase):
                 made = getattr(module(file), name)
                 self.assertEqual(called(name, made.__init__, 1), line)
                 self.assertEqual(made.__module__, "surehollows." + file)
-                for method in methods:
-                    word = method.split("(")[0]
-                    held = made.__dict__[word]
-                    bound = 0 if isinstance(held, classmethod) else 1
-                    self.assertEqual(called(word, getattr(made, word), bound), method)
+                self.check_methods(made, methods)
+
+    def check_methods(self, made, methods):
+        for method in methods:
+            word = method.split("(")[0]
+            bound = 0 if isinstance(made.__dict__[word], classmethod) else 1
+            self.assertEqual(called(word, getattr(made, word), bound), method)
+
+    def test_methods_of_forms(self):
+        made = module("forms").Form
+        self.assertEqual(made.__module__, "surehollows.forms")
+        self.check_methods(made, FORM_METHODS)
 
     def test_special_methods_stand_in_the_class_itself(self):
         for (file, name), words in SPECIAL.items():

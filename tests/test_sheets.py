@@ -6,32 +6,16 @@ import unittest
 from surehollows.bounds import Bounds
 from surehollows.charts import Chart
 from surehollows.errors import DuplicateName, Mismatch, NotBorder, NotChart, NotSheet, TooLarge, UnknownPlace
-from surehollows.lands import Land
 from surehollows.sheets import MOST_BORDERS, Sheet
 from tests.helper import (
-    SomeObject, bounds, chart_of, check_fresh, line_of, look, many_names, no_charts, no_places, odd_values, raised,
-    refused, sample, some_charts
+    bounds, chart_of, check_fresh, face, line_of, look, many_names, no_charts, no_lists_or_tuples, no_places, no_sheets,
+    raised, refused, sample, some_charts
 )
-
-
-def face(sheet):
-    """All that a sheet tells."""
-    return (look(sheet.chart), sheet.borders(), sheet.inner())
 
 
 def plain(names, borders):
     """A sheet of places without ties, all of the same bounds."""
     return Sheet(Chart({name: bounds("0..5") for name in names}), borders)
-
-
-def no_sheets():
-    """Values of many kinds that are no sheet."""
-    return [*odd_values(), 0, "a", {}, bounds("0"), sample(), Land.lowest(sample()), face(Sheet(sample()))]
-
-
-def no_lists():
-    """Values of many kinds that are neither a list nor a tuple."""
-    return [None, True, False, 0, 7, "", "a", "ab", {}, {"a": 1}, bounds("0"), sample(), Sheet(sample()), SomeObject()]
 
 
 class TestSheet(unittest.TestCase):
@@ -65,7 +49,7 @@ class TestSheet(unittest.TestCase):
         for borders in [(), None, ["z"], "a", 0]:
             refused(self, NotChart, lambda value: Sheet(value, borders), no_charts())
         refused(self, NotChart, lambda value: Sheet(value), [*no_charts(), Sheet(sample())])
-        refused(self, UnknownPlace, lambda value: Sheet(sample(), value), no_lists())
+        refused(self, UnknownPlace, lambda value: Sheet(sample(), value), no_lists_or_tuples())
         for item in [*no_places(), Sheet(sample())]:
             for borders in [[item], (item,), ["a", item, "y"], ("a", "b", item, None)]:
                 self.assertIs(raised(self, UnknownPlace, Sheet, sample(), borders).name, item)
@@ -228,7 +212,7 @@ class TestKept(unittest.TestCase):
     def test_errors(self):
         sheet = Sheet(sample(), ["d", "b"])
         before = face(sheet)
-        refused(self, NotBorder, sheet.kept, no_lists())
+        refused(self, NotBorder, sheet.kept, no_lists_or_tuples())
         for item in [*no_places(), "a", "c", "e", sheet]:
             for given in [[item], (item,), ["b", item, "z"], ("d", "b", item, None)]:
                 self.assertIs(raised(self, NotBorder, sheet.kept, given).name, item)
